@@ -1,0 +1,1 @@
+"""Handlocks: things handed round under words and last ticks."""
