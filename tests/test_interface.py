@@ -22,11 +22,29 @@ MODULES = {
         "is_order": ["web", "leaders", "thing"],
     },
     "leaders": {"least_leaders": ["web"], "fewest_leaders": ["web"], "apart": ["web"]},
+    "deals": {"Deal": None, "trails": ["deal", "handing", "leader"], "open_until": ["deal", "handing"]},
+    "courses": {
+        "is_course": ["deal", "keepers", "thing"], "taken": ["deal", "course"], "losers": ["deal", "course"],
+        "must_show": ["deal", "course", "party"],
+    },
+    "losing": {
+        "slips": ["deal", "party"], "slack": ["deal", "party"], "can_lose": ["deal", "party"],
+        "losing_course": ["deal", "party"], "in_danger": ["deal"], "is_sound": ["deal"], "mended": ["deal", "party"],
+    },
+    "keeping": {
+        "kept_course": ["deal"], "goes_through": ["deal"], "taken_at": ["deal"], "last_tick": ["deal"],
+        "stopped_course": ["deal", "party", "tick"], "harmed": ["deal", "party"],
+    },
 }
 METHODS = {
     "Web": {
         "__init__": ["self", "parties", "handings"], "parties": ["self"], "handings": ["self"], "ins": ["self", "party"],
         "outs": ["self", "party"], "with_handing": ["self", "handing"], "without": ["self", "handing"], "turned": ["self"],
+    },
+    "Deal": {
+        "__init__": ["self", "web", "leaders", "last", "wait"], "web": ["self"], "leaders": ["self"], "last": ["self"],
+        "wait": ["self"], "with_last": ["self", "handing", "length", "tick"], "with_wait": ["self", "wait"],
+        "with_leaders": ["self", "leaders"], "__eq__": ["self", "other"],
     },
 }
 LISTED = list(MODULES)
@@ -53,11 +71,12 @@ class TestInterface(unittest.TestCase):
                     self.assertEqual(arguments_of(defined[name]), arguments)
 
     def test_methods_stand_in_their_class(self):
-        for part in tree_of("webs").body:
-            if isinstance(part, ast.ClassDef):
-                found = {inner.name: arguments_of(inner) for inner in part.body if isinstance(inner, ast.FunctionDef)}
-                for name, arguments in METHODS[part.name].items():
-                    self.assertEqual(found.get(name), arguments, name)
+        classes = [part for module in MODULES for part in tree_of(module).body if isinstance(part, ast.ClassDef)]
+        self.assertTrue(set(METHODS) <= {part.name for part in classes})
+        for part in classes:
+            found = {inner.name: arguments_of(inner) for inner in part.body if isinstance(inner, ast.FunctionDef)}
+            for name, arguments in METHODS.get(part.name, {}).items():
+                self.assertEqual(found.get(name), arguments, name)
 
     def test_init_defines_nothing(self):
         body = tree_of("__init__").body

@@ -5,17 +5,10 @@ import unittest
 
 from handlocks.errors import BadWeb, NoHanding, NoParty
 from handlocks.webs import Web, closed_lots, farthest, is_tied, nearest, rings, ways
-from tests.helper import LINE, RING, all_handings, strange_values
+from tests.helper import LINE, RING, Equal, all_handings, strange_values
 
 TWELVE = all_handings(["a", "b", "c", "d"])
 SIX = ["f", "e", "d", "c", "b", "a"]
-
-
-class Equal:
-    """Says that it is equal to everything: a value of another kind all the same."""
-
-    def __eq__(self, other):
-        return True
 
 
 class RaisesTest(unittest.TestCase):
