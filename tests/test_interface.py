@@ -35,6 +35,18 @@ MODULES = {
         "kept_course": ["deal"], "goes_through": ["deal"], "taken_at": ["deal"], "last_tick": ["deal"],
         "stopped_course": ["deal", "party", "tick"], "harmed": ["deal", "party"],
     },
+    "tables": {
+        "least_last": ["web", "leaders", "wait"], "plain_last": ["web", "leaders", "wait"], "plain_leaders": ["web"],
+    },
+    "rules": {
+        "TrailRule": None, "WayRule": None, "least_losing": ["rule", "wait"], "losing_web": ["rule", "wait"],
+        "least_stuck": ["rule", "wait"], "most_wait": ["rule"],
+    },
+    "back": {
+        "keepers_in": ["deal", "course"], "first_fault": ["deal", "course", "party"], "heard": ["deal", "course", "leader"],
+        "trusted": ["deal", "course"],
+    },
+    "live": {"Board": None},
 }
 METHODS = {
     "Web": {
@@ -45,6 +57,21 @@ METHODS = {
         "__init__": ["self", "web", "leaders", "last", "wait"], "web": ["self"], "leaders": ["self"], "last": ["self"],
         "wait": ["self"], "with_last": ["self", "handing", "length", "tick"], "with_wait": ["self", "wait"],
         "with_leaders": ["self", "leaders"], "__eq__": ["self", "other"],
+    },
+    "TrailRule": {
+        "__init__": ["self", "listed", "growth"], "listed": ["self"], "growth": ["self"], "until": ["self", "length"],
+        "deal_for": ["self", "web", "leaders", "wait"], "__eq__": ["self", "other"],
+    },
+    "WayRule": {
+        "__init__": ["self", "constant", "per_near", "per_far", "per_party"], "constant": ["self"], "per_near": ["self"],
+        "per_far": ["self"], "per_party": ["self"], "deal_for": ["self", "web", "leader", "wait"],
+        "__eq__": ["self", "other"],
+    },
+    "Board": {
+        "__init__": ["self", "deal"], "deal": ["self"], "tick": ["self"], "course": ["self"], "log": ["self"],
+        "taken": ["self"], "lay": ["self", "party"], "start": ["self"], "show": ["self", "handing", "trail"],
+        "pass_tick": ["self"], "undo": ["self"], "must": ["self", "party"], "faults": ["self"], "tried": ["self", "work"],
+        "copy": ["self"], "__enter__": ["self"], "__exit__": ["self", "kind", "value", "trace"], "__eq__": ["self", "other"],
     },
 }
 LISTED = list(MODULES)
