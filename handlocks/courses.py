@@ -61,20 +61,25 @@ def leading(deal, laid, party):
     return [(0, handing, (party,)) for handing in ins]
 
 
-def answers(deal, laid, shows, party, tick):
-    """What the party must show at this tick by what was shown at its outs wait ticks ahead of it."""
-    seen = [trail for when, place, trail in shows if place[0] == party and when + deal.wait == tick]
+def answers_to(deal, laid, seen, done, party, tick):
+    """What the party must show at this tick, at which it sees shows with these trails, having done some shows."""
     longer = [(party,) + trail for trail in seen if party not in trail]
     found = []
     for handing in deal.web.ins(party):
         if handing in laid:
-            done = [trail[-1] for when, place, trail in shows if place == handing and when < tick]
-            fit = [trail for trail in longer if trail[-1] not in done and in_time(deal, tick, handing, trail)]
+            known = [trail[-1] for when, place, trail in done if place == handing and when < tick]
+            fit = [trail for trail in longer if trail[-1] not in known and in_time(deal, tick, handing, trail)]
             for leader in deal.leaders:
                 least = min([trail for trail in fit if trail[-1] == leader], default=None)
                 if least is not None:
                     found.append((tick, handing, least))
     return found
+
+
+def answers(deal, laid, shows, party, tick):
+    """What the party must show at this tick by what was shown at its outs wait ticks ahead of it."""
+    seen = [trail for when, place, trail in shows if place[0] == party and when + deal.wait == tick]
+    return answers_to(deal, laid, seen, shows, party, tick)
 
 
 def due_at(deal, laid, shows, party, tick):

@@ -4,13 +4,18 @@ from handlocks.back import all_wrong, passed_over
 from handlocks.courses import all_due, is_trail, taken_by
 from handlocks.deals import check_deal, check_handing, in_time
 from handlocks.errors import NothingDone, NotNow
-from handlocks.laying import laid_by
 from handlocks.webs import check_party
 
 
 def laying_of(log):
     """The parties that have laid by these deeds, in their order."""
     return [deed[1] for deed in log if deed[0] == "lay"]
+
+
+def laid_of(deal, log):
+    """The handings that are laid by these deeds, ascending."""
+    laying = laying_of(log)
+    return [handing for handing in deal.web.handings if handing[0] in laying]
 
 
 def tick_of(log):
@@ -74,8 +79,7 @@ class Board:
     @property
     def taken(self):
         """The handings that are taken, ascending."""
-        laid = laid_by(self._deal.web, laying_of(self._log))
-        return taken_by(self._deal, laid, shows_of(self._log))
+        return taken_by(self._deal, laid_of(self._deal, self._log), shows_of(self._log))
 
     def __eq__(self, other):
         return isinstance(other, Board) and self._deal == other._deal and self._log == other._log
@@ -128,7 +132,7 @@ class Board:
     def can_show(self, handing, trail):
         """Whether any value can be shown as a trail at this handing now."""
         tick = self.tick
-        if tick is None or handing[0] not in laying_of(self._log) or not is_trail(self._deal, handing, trail):
+        if tick is None or handing not in laid_of(self._deal, self._log) or not is_trail(self._deal, handing, trail):
             return False
         shown = [(place, other[-1]) for _, place, other in shows_of(self._log)]
         return in_time(self._deal, tick, handing, trail) and (handing, trail[-1]) not in shown
@@ -136,8 +140,8 @@ class Board:
     def must(self, party):
         """The pairs (handing, trail) that the party must show at this tick and has not shown, ascending."""
         check_party(self._deal.web, party)
-        laying, shows = self.course
-        due = all_due(self._deal, laid_by(self._deal.web, laying), shows, party)
+        shows = shows_of(self._log)
+        due = all_due(self._deal, laid_of(self._deal, self._log), shows, party)
         now = self.tick
         return [(handing, trail) for tick, handing, trail in due if tick == now and (tick, handing, trail) not in shows]
 
@@ -161,6 +165,5 @@ class Board:
     def copy(self):
         """An independent board with the same deeds, in no block."""
         other = Board(self._deal)
-        for deed in self._log:
-            other.note(deed)
+        other._log = self._log
         return other

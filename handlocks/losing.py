@@ -50,90 +50,113 @@ def mended(deal, party):
     return better
 
 
-def plan_around(deal, out, trail, missed):
-    """How free parties show a trail at an out of a keeper who does not stand in it: a list of shows, [] if they cannot.
+# A plan of free parties against a keeper is a list of pairs: a show at one of its outs, and so many ticks later it
+# sees the show. The least and the greatest of these numbers that there can be are called the span. [] is no plan.
+
+
+def plan_around(deal, out, trail, missed, span):
+    """How they show a trail at an out of a keeper who does not stand in it.
 
     If missed is an in of the keeper, its answer must come too late there.
     """
     length = len(trail) - 1
-    tick = 0 if missed is None else max(0, last_for(deal, missed, length + 1) - deal.wait + 1)
-    return [(tick, out, trail)] if tick <= last_for(deal, out, length) else []
+    tick = 0 if missed is None else max(0, last_for(deal, missed, length + 1) - span[1] + 1)
+    return [((tick, out, trail), span[1])] if tick <= last_for(deal, out, length) else []
 
 
-def brought_to_show(deal, party, rest, missed):
-    """How free parties bring a keeper to show the trail of itself and then the rest at one of its ins.
+def plan_to_be_told(deal, party, rest, missed, span):
+    """How they bring the keeper to show the trail of itself and then the rest at one of its ins, but not where missed.
 
-    A pair of their shows and of the tick at which it does so, or None.
+    A pair of their plan and of the tick at which the keeper does so, None if they cannot. The sooner it does so the
+    more can be done with it.
     """
-    ins = deal.web.ins(party)
-    if len(rest) == 0:
-        # A leader shows its own word without being asked: at all its ins at tick 0, or nowhere.
-        return ([], 0) if all([last_for(deal, handing, 0) >= 0 for handing in ins]) else None
-    asked = plan_around(deal, (party, rest[0]), rest, missed)
-    if len(asked) == 0:
+    out = (party, rest[0])
+    latest = last_for(deal, out, len(rest) - 1)
+    tick = span[0] if missed is None else max(span[0], last_for(deal, missed, len(rest)) + 1)
+    later = max(span[0], tick - latest)
+    in_time_somewhere = any([tick <= last_for(deal, handing, len(rest)) for handing in deal.web.ins(party)])
+    if latest < 0 or later > span[1] or not in_time_somewhere:
         return None
-    tick = asked[0][0] + deal.wait
-    return (asked, tick) if any([tick <= last_for(deal, handing, len(rest)) for handing in ins]) else None
+    return ([((tick - later, out, rest), later)], tick)
 
 
-def plan_through(deal, party, out, trail, missed):
-    """How free parties show a trail in which the keeper itself stands: a list of shows, [] if they cannot."""
-    brought = brought_to_show(deal, party, trail[trail.index(party) + 1:], missed)
-    if brought is None:
+def leader_tells(deal, party):
+    """The same for the word of the keeper itself: it shows it unasked, at all its ins at tick 0, or nowhere."""
+    return ([], 0) if all([last_for(deal, handing, 0) >= 0 for handing in deal.web.ins(party)]) else None
+
+
+def plan_through(deal, party, out, trail, missed, span):
+    """How they show a trail in which the keeper itself stands."""
+    rest = trail[trail.index(party) + 1:]
+    told = plan_to_be_told(deal, party, rest, missed, span) if rest else leader_tells(deal, party)
+    if told is None:
         return []
-    asked, tick = brought
+    plan, tick = told
     # What the keeper shows at a tick is known from the next one on.
-    return asked + [(tick + 1, out, trail)] if tick + 1 <= last_for(deal, out, len(trail) - 1) else []
+    in_time_there = tick + 1 <= last_for(deal, out, len(trail) - 1)
+    return plan + [((tick + 1, out, trail), span[0])] if in_time_there else []
 
 
-def plan_for(deal, party, out, leader, missed):
-    """How free parties bring the word of a leader to an out of the party: a list of shows, [] if they cannot.
+def plan_for(deal, party, out, leader, missed, span):
+    """How they bring the word of a leader to an out of the keeper.
 
-    If missed is an in of the party, the party must not show this word there.
+    If missed is an in of the keeper, it must not show this word there.
     """
     for trail in trails(deal, out, leader):
         if party in trail:
-            plan = plan_through(deal, party, out, trail, missed)
+            plan = plan_through(deal, party, out, trail, missed, span)
         else:
-            plan = plan_around(deal, out, trail, missed)
+            plan = plan_around(deal, out, trail, missed, span)
         if plan:
             return plan
     return []
 
 
-def plan_at(deal, party, out):
-    """How free parties take this out while the party misses an in: a list of shows, [] if they cannot.
+def plan_at(deal, party, out, span):
+    """How they take this out while the keeper misses an in.
 
     The words do not touch one another: what is shown and known of one changes nothing for another. So one word
     must be missed, and all others need only come to the out. A leader who keeps the rules never misses its own
     word, since nobody else can show it before the leader has shown it at all its ins.
     """
-    plans = {leader: plan_for(deal, party, out, leader, None) for leader in deal.leaders}
+    plans = {leader: plan_for(deal, party, out, leader, None, span) for leader in deal.leaders}
     if not all([len(plans[leader]) > 0 for leader in deal.leaders]):
         return []
     for word in [leader for leader in deal.leaders if leader != party]:
         for missed in deal.web.ins(party):
-            plan = plan_for(deal, party, out, word, missed)
+            plan = plan_for(deal, party, out, word, missed, span)
             if plan:
-                others = [show for leader in deal.leaders if leader != word for show in plans[leader]]
-                return plan + others
+                return plan + [pair for leader in deal.leaders if leader != word for pair in plans[leader]]
     return []
 
 
-def losing_course(deal, party):
-    """A course with the party as the only keeper in which it loses, None if there is none.
+def losing_plan(deal, party, span):
+    """How they make the keeper lose. For this all lay, it behind them."""
+    for out in deal.web.outs(party):
+        plan = plan_at(deal, party, out, span)
+        if plan:
+            return plan
+    return []
 
-    All others lay ahead of it, for what is not laid helps nobody against it: its outs are laid only if all its
-    ins are, or it is a leader, who shows its word only then.
+
+def laying_against(deal, party):
+    """The laying of all with the party last.
+
+    What is not laid helps nobody against it: its outs are laid only if all its ins are, or it is a leader, who
+    shows its word only then.
     """
+    return [other for other in deal.web.parties if other != party] + [party]
+
+
+def losing_course(deal, party):
+    """A course with the party as the only keeper in which it loses, None if there is none."""
     check_deal(deal)
     check_party(deal.web, party)
-    for out in deal.web.outs(party):
-        plan = plan_at(deal, party, out)
-        if plan:
-            laying = [other for other in deal.web.parties if other != party] + [party]
-            return (laying, sorted(plan + all_due(deal, deal.web.handings, plan, party)))
-    return None
+    plan = losing_plan(deal, party, (deal.wait, deal.wait))
+    if len(plan) == 0:
+        return None
+    shows = [show for show, _ in plan]
+    return (laying_against(deal, party), sorted(shows + all_due(deal, deal.web.handings, shows, party)))
 
 
 def can_lose(deal, party):

@@ -125,7 +125,7 @@ class WayRule:
 
     def deal_for(self, web, leader, wait):
         """The deal with this one leader, and with these last ticks for all lengths."""
-        if not isinstance(web, Web) or not is_tied(web):
+        if not is_tied(web):
             raise BadWeb("web")
         check_party(web, leader)
         check_wait(wait)
@@ -203,5 +203,4 @@ def least_stuck(rule, wait):
 
 def most_wait(rule):
     """The greatest wait with which nobody can lose by the rule, 0 if there is none."""
-    check_rule(rule)
     return max([wait for wait in range(1, 6) if least_losing(rule, wait) is None], default=0)

@@ -47,6 +47,15 @@ MODULES = {
         "trusted": ["deal", "course"],
     },
     "live": {"Board": None},
+    "journals": {"journal_of": ["board"], "first_wrong": ["deal", "journal"], "replayed": ["deal", "journal"]},
+    "texts": {
+        "deal_text": ["deal"], "read_deal": ["text"], "shows_text": ["deal", "shows"], "read_shows": ["deal", "text"],
+    },
+    "desk": {"Desk": None},
+    "late": {
+        "is_late_course": ["deal", "keepers", "late", "thing"], "can_lose_late": ["deal", "party", "late"],
+        "late_losing_course": ["deal", "party", "late"], "bears": ["deal", "party"],
+    },
 }
 METHODS = {
     "Web": {
@@ -73,6 +82,7 @@ METHODS = {
         "pass_tick": ["self"], "undo": ["self"], "must": ["self", "party"], "faults": ["self"], "tried": ["self", "work"],
         "copy": ["self"], "__enter__": ["self"], "__exit__": ["self", "kind", "value", "trace"], "__eq__": ["self", "other"],
     },
+    "Desk": {"__init__": ["self", "text"], "reply": ["self", "line"]},
 }
 LISTED = list(MODULES)
 
